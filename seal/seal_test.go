@@ -63,7 +63,7 @@ func mustStayShut(t *testing.T, b []byte) {
 	}
 }
 
-// This test stands first, so that the table is created while several ask for it.
+// This test stands before all others of this file, so that the table is created while several ask for it.
 func TestChecksumsAreComputedAtTheSameTime(t *testing.T) {
 	var group sync.WaitGroup
 	sums := make([]uint32, 16)
