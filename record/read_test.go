@@ -235,8 +235,10 @@ func TestInvertedBitsWithin24EndTheReading(t *testing.T) {
 	whole := joined(three()...)
 	for block := range len(whole) / blockLen {
 		for start := range 8*blockLen - 23 {
-			for _, pattern := range patterns(uint32(start)) {
-				mustReadBefore(t, invert(whole, 8*blockLen*block+start, pattern), block)
+			// A sixteenth of the patterns for each start, another one for the next: all of them for each would take minutes.
+			list := patterns(uint32(start))
+			for i := start % 16; i < len(list); i += 16 {
+				mustReadBefore(t, invert(whole, 8*blockLen*block+start, list[i]), block)
 			}
 		}
 	}
